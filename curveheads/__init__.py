@@ -1,0 +1,1 @@
+"""Functions on curves over a small prime, told by how they begin at places."""

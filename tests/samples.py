@@ -1,0 +1,146 @@
+"""What several tests need: wrong values, a check of refusals, and arithmetic that owes nothing to the package."""
+
+import itertools
+
+from curveheads.curves import Curve
+from curveheads.errors import InvalidPrime
+
+PRIMES = (3, 5, 7, 11, 13)
+
+
+def nested(depth):
+    value = []
+    for _ in range(depth - 1):
+        value = [value]
+    return value
+
+
+def never_whole():
+    """Values that are no whole numbers."""
+    return [
+        None, True, False, "", "3", [], [3], [True], (), (3,), {}, {"p": 3}, {3: True}, ["3"], [[3]], ([3], 3),
+        nested(30), Curve(3, [0, 1]), [Curve(3, [0, 1])], InvalidPrime(3),
+    ]
+
+
+def wrong_primes():
+    """Values that are none of the five primes."""
+    return never_whole() + [0, 1, 2, 4, 6, 8, 9, 10, 12, 14, 15, 17, -3, -5, -13, 3 + 10 ** 20, 10 ** 29]
+
+
+def wrong_polynomials(p):
+    """Values that are no polynomials over the numbers modulo p."""
+    return [
+        None, True, False, 0, 1, p, "", "1", "[1]", "011", (), (1,), (0, 1), {}, {0: 1}, {1: True},
+        [True], [0, True], [False, 1], [1, True, 1], [0], [0, 0], [1, 0], [1, 1, 0], [0, 1, 0],
+        [p], [p, 1], [0, p], [0, p + 1], [1, 10 ** 29, 1], [-1], [-1, 1], [0, -1], [1, -p, 1],
+        [None], [None, 1], [1, None], ["1"], ["0", "1"], [0, "x", 1], [[0, 1]], [[1]], [0, [1]], [[], 1], [(0, 1)],
+        [0, (1,)], [{}, 1], nested(30), ([0, 1],), Curve(3, [0, 1]), [Curve(3, [0, 1])], [0, Curve(3, [0, 1]), 1],
+        InvalidPrime([0, 1]),
+    ]
+
+
+def wrong_powers():
+    """Values that are no whole numbers from 1 to 60."""
+    return never_whole() + [0, -1, -60, 61, 62, 120, 10 ** 29, -10 ** 29]
+
+
+def assert_refused(case, error, refused, call, /, *arguments, **named):
+    """The call raises just this error, and its field holds the very value."""
+    with case.subTest(call=call.__name__, arguments=arguments, named=named):
+        with case.assertRaises(error) as caught:
+            call(*arguments, **named)
+        case.assertIs(type(caught.exception), error)
+        case.assertIs(caught.exception.value, refused)
+
+
+def product(p, polynomials):
+    """The product of polynomials, added up term by term."""
+    found = [1]
+    for one in polynomials:
+        sums = [0] * (len(found) + len(one) - 1)
+        for i, left in enumerate(found):
+            for j, right in enumerate(one):
+                sums[i + j] = (sums[i + j] + left * right) % p
+        found = sums
+    return found
+
+
+def rest_of(p, one, monic):
+    """What a monic polynomial leaves of a polynomial, with noughts at the end."""
+    rest = list(one)
+    for at in range(len(one) - len(monic), -1, -1):
+        times = rest[at + len(monic) - 1]
+        for k, number in enumerate(monic):
+            rest[at + k] = (rest[at + k] - times * number) % p
+    return rest
+
+
+def monics(p, power):
+    return [list(numbers) + [1] for numbers in itertools.product(range(p), repeat=power)]
+
+
+def is_undivided(p, monic):
+    """Whether no monic polynomial of a lower power divides a monic one, each being tried."""
+    powers = range(1, (len(monic) - 1) // 2 + 1)
+    return len(monic) > 1 and all(any(rest_of(p, monic, low)) for power in powers for low in monics(p, power))
+
+
+def trimmed(numbers):
+    numbers = list(numbers)
+    while numbers and numbers[-1] == 0:
+        numbers.pop()
+    return numbers
+
+
+def frobenius_rows(p, monic):
+    """What a monic polynomial leaves of x ** (p * k), for all k below its power."""
+    power = len(monic) - 1
+    rows = []
+    row = [1] + [0] * (power - 1)
+    for _ in range(power):
+        rows.append(row)
+        for _ in range(p):
+            row = rest_of(p, [0] + row, monic)[:power]
+    return rows
+
+
+def is_one_prime(p, monic):
+    """Whether a monic polynomial is prime, by p-th powers of x and its rests: quick for great powers, too."""
+    power = len(monic) - 1
+    if power < 1:
+        return False
+    rows = frobenius_rows(p, monic)
+    first = rest_of(p, [0, 1] + [0] * power, monic)[:power]
+    turned = [first]
+    for _ in range(power):
+        # As numbers are their own p-th powers, the p-th power of a sum is the sum of those of its parts.
+        turned.append([sum(left * row[at] for left, row in zip(turned[-1], rows)) % p for at in range(power)])
+    lower = [power // part for part in range(2, power + 1) if power % part == 0]
+    return turned[power] == first and all(has_no_common_factor(p, monic, less(p, turned[at], first)) for at in lower)
+
+
+def less(p, one, other):
+    pairs = itertools.zip_longest(one, other, fillvalue=0)
+    return trimmed([(left - right) % p for left, right in pairs])
+
+
+def has_no_common_factor(p, one, other):
+    while other:
+        turn = pow(other[-1], -1, p)
+        other = [number * turn % p for number in other]
+        one, other = other, trimmed(rest_of(p, one, other))
+    return len(one) == 1
+
+
+def lists_within(value):
+    """All list objects within a result, each as often as it stands there."""
+    if not isinstance(value, (list, tuple)):
+        return []
+    inner = [found for item in value for found in lists_within(item)]
+    return inner + [value] if isinstance(value, list) else inner
+
+
+def assert_no_list_twice(case, result):
+    found = lists_within(result)
+    case.assertEqual(len({id(one) for one in found}), len(found))
