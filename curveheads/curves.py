@@ -1,6 +1,6 @@
 """Curves y * y = f(x) over the numbers modulo a prime."""
 
-from curveheads.errors import InvalidPolynomial
+from curveheads.errors import InvalidCurve, InvalidPolynomial
 from curveheads.polynomials import check_prime, is_polynomial, poly_common, poly_slope
 
 POWERS = (1, 3, 5, 7)
@@ -35,3 +35,8 @@ class Curve:
 
     def __eq__(self, other):
         return isinstance(other, Curve) and self._prime == other._prime and self._numbers == other._numbers
+
+
+def check_curve(curve):
+    if not isinstance(curve, Curve):
+        raise InvalidCurve(curve)

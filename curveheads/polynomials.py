@@ -59,6 +59,11 @@ def poly_less(p, one, other):
     return poly_trimmed(shared + one[len(other):] + beyond)
 
 
+def poly_sum(p, one, other):
+    """The sum of two polynomials."""
+    return poly_less(p, one, poly_less(p, [], other))
+
+
 def poly_product(p, one, other):
     """The product of two polynomials."""
     if not one or not other:
@@ -83,6 +88,19 @@ def poly_divided(p, one, other):
             for by, number in enumerate(other):
                 rest[at + by] = (rest[at + by] - times * number) % p
     return quotient, poly_trimmed(rest[:len(other) - 1])
+
+
+def poly_power(p, one, count):
+    """A polynomial taken so many times by itself."""
+    found = [1]
+    for _ in range(count):
+        found = poly_product(p, found, one)
+    return found
+
+
+def poly_rest(p, one, other):
+    """What a polynomial leaves if it is divided by another one, not nought."""
+    return poly_divided(p, one, other)[1]
 
 
 def poly_common(p, one, other):

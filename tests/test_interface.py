@@ -8,6 +8,19 @@ FUNCTIONS = {
     "curveheads.primes": {
         "is_prime": ["p", "value"], "how_many_primes": ["p", "power"], "primes_of": ["p", "power"],
         "factors": ["p", "one"]},
+    "curveheads.functions": {
+        "sum_of": ["one", "other"], "less_of": ["one", "other"], "product_of": ["one", "other"],
+        "quotient_of": ["one", "other"], "power_of": ["function", "exponent"], "turned": ["function"],
+        "norm": ["function"], "trace": ["function"], "far_order": ["function"], "lead": ["function"],
+        "slope": ["function"], "pth_root": ["function"]},
+    "curveheads.places": {
+        "is_place": ["curve", "value"], "place_degree": ["curve", "place"], "place_turned": ["curve", "place"],
+        "places_over": ["curve", "q"], "places_of": ["curve", "degree"]},
+    "curveheads.orders": {"order_at": ["curve", "function", "place"]},
+    "curveheads.fields": {
+        "value_sum": ["curve", "place", "one", "other"], "value_product": ["curve", "place", "one", "other"],
+        "value_quotient": ["curve", "place", "one", "other"], "value_norm": ["curve", "place", "value"],
+        "value_trace": ["curve", "place", "value"]},
 }
 CLASSES = {
     "curveheads.errors": {name: ["value"] for name in (
@@ -15,8 +28,12 @@ CLASSES = {
         "InvalidPlace", "InvalidBundle", "InvalidForm", "InvalidSeries", "InvalidHeads", "InvalidList", "Unlike",
         "TooMany")},
     "curveheads.curves": {"Curve": ["p", "f"]},
+    "curveheads.functions": {"Function": ["curve", "top", "side", "bottom"]},
 }
-METHODS = {("curveheads.curves", "Curve"): ["prime", "polynomial", "genus", "__eq__"]}
+METHODS = {
+    ("curveheads.curves", "Curve"): ["prime", "polynomial", "genus", "__eq__"],
+    ("curveheads.functions", "Function"): ["curve", "top", "side", "bottom", "__eq__", "__bool__"],
+}
 
 
 class InterfaceTest(unittest.TestCase):

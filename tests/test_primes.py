@@ -1,15 +1,13 @@
 """Promise [6]: prime polynomials. With [2]: lists that are handed in and told belong to the caller."""
 
-import functools
-import itertools
 import unittest
 
 from curveheads.curves import Curve
 from curveheads.errors import InvalidNumber, InvalidPolynomial, InvalidPrime, TooMany
 from curveheads.primes import factors, how_many_primes, is_prime, primes_of
 from tests.samples import (
-    PRIMES, assert_no_list_twice, assert_refused, is_one_prime, is_undivided, monics, nested, product,
-    wrong_polynomials, wrong_powers, wrong_primes)
+    PRIMES, assert_no_list_twice, assert_refused, first_primes, is_one_prime, is_undivided, monics, nested, product,
+    spread, wrong_polynomials, wrong_powers, wrong_primes)
 
 # The greatest power of which there are at most 1,000 prime polynomials, and how many there are of it and the next.
 MOST_LISTED = {3: (8, 810, 2184), 5: (5, 624, 2580), 7: (4, 588, 3360), 11: (3, 440, 3630), 13: (3, 728, 7098)}
@@ -31,35 +29,11 @@ def counted(p, power):
     return sum(moebius(power // part) * p ** part for part in range(1, power + 1) if power % part == 0) // power
 
 
-@functools.lru_cache(maxsize=None)
-def tried_primes(p, power, many):
-    found = []
-    for low in itertools.product(range(p), repeat=4):
-        # The number at the lowest place changes first, as all polynomials with 0 there are multiples of x.
-        one = list(low[::-1]) + [0] * (power - 4) + [1]
-        if is_one_prime(p, one):
-            found.append(one)
-        if len(found) == many:
-            break
-    return found
-
-
-def first_primes(p, power, many):
-    """Some prime polynomials of a power, found by trying numbers at the lowest places."""
-    return [list(one) for one in tried_primes(p, power, many)]
-
-
-def spread(p, seed, power):
-    """A polynomial of a power whose numbers have no plain pattern."""
-    return [(seed * at * at * at + 3 * at * at + seed + at // 3) % p for at in range(power)] + [1 + seed % (p - 1)]
-
-
 class ArithmeticOfTheTests(unittest.TestCase):
     def test_both_ways_to_judge_agree(self):
         for p, power in [(3, 1), (3, 2), (3, 3), (3, 4), (3, 5), (5, 2), (5, 3), (7, 2)]:
             for one in monics(p, power):
                 self.assertEqual(is_one_prime(p, one), is_undivided(p, one))
-
 
     def test_as_many_primes_are_found_as_are_asked_for(self):
         for p in PRIMES:
