@@ -119,13 +119,7 @@ def trace(function):
 def far_order(function):
     """The order of the pole of a function, not nought, at the far place."""
     check_not_nought(function)
-    top, side = function.top(), function.side()
-    orders = []
-    if top:
-        orders.append(2 * (len(top) - 1))
-    if side:
-        orders.append(2 * (len(side) - 1) + len(function.curve().polynomial()) - 1)
-    return max(orders) - 2 * (len(function.bottom()) - 1)
+    return height_of_pair(function.curve(), function.top(), function.side()) - 2 * (len(function.bottom()) - 1)
 
 
 def lead(function):
@@ -214,6 +208,16 @@ def turned_over(function):
     top = poly_product(p, bottom, function.top())
     side = poly_product(p, bottom, poly_less(p, [], function.side()))
     return function_of(function.curve(), top, side, norm_of_pair(function.curve(), function.top(), function.side()))
+
+
+def height_of_pair(curve, top, side):
+    """The far order of the function top + side * y, not nought."""
+    orders = []
+    if top:
+        orders.append(2 * (len(top) - 1))
+    if side:
+        orders.append(2 * (len(side) - 1) + len(curve.polynomial()) - 1)
+    return max(orders)
 
 
 def slope_over(p, one, bottom):

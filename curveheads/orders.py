@@ -14,6 +14,11 @@ def order_at(curve, function, place):
     check_place(curve, place)
     if not function:
         return None
+    return order_there(function, place)
+
+
+def order_there(function, place):
+    """The order of a function, not nought, at a place."""
     if place == ():
         return -far_order(function)
     return near_order(function, place)

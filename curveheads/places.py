@@ -28,12 +28,7 @@ def place_turned(curve, place):
     """The place turned about: only plain ones change."""
     check_curve(curve)
     check_place(curve, place)
-    if place == ():
-        return ()
-    q, w = place
-    if w is None:
-        return list(q), None
-    return list(q), poly_less(curve.prime(), [], w)
+    return turned_about(curve, place)
 
 
 def places_over(curve, q):
@@ -85,6 +80,16 @@ def degree_of_place(place):
     if is_wide(place):
         return 2 * power
     return power
+
+
+def turned_about(curve, place):
+    """The place turned about."""
+    if place == ():
+        return ()
+    q, w = place
+    if w is None:
+        return list(q), None
+    return list(q), poly_less(curve.prime(), [], w)
 
 
 def near_places(curve, q):

@@ -3,7 +3,8 @@
 from curveheads.errors import InvalidNumber, InvalidPolynomial, TooMany
 from curveheads.polynomials import (
     MOST_POWER, check_polynomial, check_prime, inverse, is_polynomial, is_whole, poly_common, poly_divided,
-    poly_less, poly_monic, poly_product, poly_slope, poly_trimmed)
+    poly_less, poly_monic, poly_product, poly_rest, poly_slope, poly_sum, poly_trimmed)
+from curveheads.rests import rest_power
 
 MOST_PRIME_POWER = 12
 MOST_PRIMES = 1000
@@ -104,6 +105,44 @@ def prime_divisors(p, one):
 
 def separated(p, one):
     """The prime polynomials whose product is a monic polynomial without double factors."""
+    if len(one) <= MOST_POWER + 1:
+        return separated_at_once(p, one)
+    found, images = [], [[0, 1]]
+    while len(one) > 2 * len(images):
+        # The product of all primes whose power divides n is x ** (p ** n) - x.
+        image = rest_power(p, one, images[-1], p)
+        alike = poly_common(p, one, poly_less(p, image, [0, 1]))
+        if len(alike) > 1:
+            found.extend(separated_alike(p, alike, images, images))
+            one = poly_divided(p, one, alike)[0]
+        images = [poly_rest(p, told, one) for told in [*images, image]]
+    if len(one) > 1:
+        found.append(one)
+    return found
+
+
+def separated_alike(p, one, images, powers):
+    """The prime polynomials of one power whose product is a monic polynomial.
+
+    The images are x, its p-th power, the p-th power of that and so on, as many as the power of the primes tells.
+    """
+    if len(one) == len(images) + 1:
+        return [one]
+    # By each prime the sum of their powers with one exponent leaves a number. Two primes are told from one another by
+    # some exponent, as sums of multiples of powers of x are all rests.
+    total = []
+    for power in powers:
+        total = poly_sum(p, total, power)
+    found = []
+    for piece in separated_by(p, one, total):
+        within = [poly_rest(p, image, piece) for image in images]
+        higher = [poly_rest(p, poly_product(p, image, power), piece) for image, power in zip(within, powers)]
+        found.extend(separated_alike(p, piece, within, higher))
+    return found
+
+
+def separated_at_once(p, one):
+    """The prime polynomials whose product is a monic polynomial without double factors: quick for low powers."""
     if len(one) == 1:
         return []
     # Berlekamp's way: there are as many independent rests that are their own p-th power as there are primes,

@@ -1,6 +1,6 @@
 """Rests by a prime polynomial q, nought or of a lower power than q: they are reckoned with as a field."""
 
-from curveheads.polynomials import inverse, is_polynomial, poly_divided, poly_less, poly_product, poly_rest
+from curveheads.polynomials import common_and_first, is_polynomial, poly_product, poly_rest
 
 
 def is_rest(p, q, value):
@@ -25,15 +25,8 @@ def rest_power(p, q, one, count):
 
 
 def rest_inverse(p, q, one):
-    """The rest whose product with a rest, not nought, is 1."""
-    before, after = q, one
-    low, high = [], [1]
-    while len(after) > 1:
-        # The product of one and high always differs from after by a multiple of q.
-        quotient, rest = poly_divided(p, before, after)
-        before, after = after, rest
-        low, high = high, poly_less(p, low, poly_product(p, quotient, high))
-    return rest_product(p, q, high, [inverse(p, after[0])])
+    """The rest whose product with a rest, not nought, is 1. Here q may be any polynomial without a factor in common."""
+    return common_and_first(p, one, q)[1]
 
 
 def rest_root(p, q, one):

@@ -275,3 +275,29 @@ def value_of(p, f, one, place):
     if w is None:
         return parts[0], parts[1]
     return rest(p, plus(p, parts[0], times(p, parts[1], w)), q)
+
+
+# Series
+
+def sign(f, place):
+    """The local sign of a place."""
+    if not place:
+        return [], [0] * ((len(f) - 2) // 2) + [1], f
+    return ([], [1], [1]) if place[1] == [] else (place[0], [], [1])
+
+
+def sum_of_series(p, f, place, told):
+    """The function that is the sum of values, each times its power of the local sign."""
+    order, values = told
+    found, high = ([], [], [1]), function_taken(p, f, sign(f, place), order)
+    for value in values:
+        one = (*value, [1]) if isinstance(value, tuple) else (value, [], [1])
+        found = function_sum(p, found, function_product(p, f, one, high))
+        high = function_product(p, f, high, sign(f, place))
+    return found
+
+
+def begins_like(p, f, one, place, told):
+    """Whether a function differs from the sum of a series by nought or by a function of a high order."""
+    missing = function_less(p, one, sum_of_series(p, f, place, told))
+    return not (missing[0] or missing[1]) or order(p, f, missing, place) >= told[0] + len(told[1])

@@ -2,13 +2,18 @@
 
 import unittest
 
+from curveheads.bundles import (
+    bundle_degree, bundle_of, bundle_sum, bundle_times, bundle_turned, is_bundle, number_at, poles_of)
 from curveheads.curves import Curve
 from curveheads.fields import value_norm, value_product, value_quotient, value_sum, value_trace
+from curveheads.forms import composed, form_bundle, form_of, form_opposite, is_form, shares
 from curveheads.functions import (
     Function, far_order, lead, less_of, norm, power_of, product_of, pth_root, quotient_of, slope, sum_of, trace, turned)
+from curveheads.joined import is_joining, is_of_function, joining, least_form
 from curveheads.orders import order_at
 from curveheads.places import is_place, place_degree, place_turned, places_of, places_over
 from curveheads.primes import factors, how_many_primes, is_prime, primes_of
+from curveheads.series import begun, is_series, local_sign, series, value_at
 
 
 class DocumentTest(unittest.TestCase):
@@ -99,6 +104,83 @@ class PlacesTest(unittest.TestCase):
                 value_quotient(five, wide, ([1], []), ([], [1])), value_norm(five, wide, ([], [1])),
                 value_trace(five, wide, ([1], [2]))]
         self.assertEqual(told, [([], []), ([3], []), ([], [2]), 2, 2])
+
+    def test_values_of_functions(self):
+        five, wide = self.five, self.wide
+        x, y = Function(five, [0, 1], [], [1]), Function(five, [], [1], [1])
+        told = [value_at(five, y, ([0, 1], [4])), value_at(five, y, wide), value_at(five, x, wide),
+                value_at(five, y, ()), value_at(five, Function(five, [0, 0, 0, 1], [], [1, 1, 0, 1]), ())]
+        self.assertEqual(told, [[4], ([], [1]), ([1], []), None, [1]])
+
+    def test_series(self):
+        five, three, wide = self.five, self.three, self.wide
+        x, y = Function(five, [0, 1], [], [1]), Function(five, [], [1], [1])
+        told = [series(five, y, ([0, 1], [1]), 4), series(five, x, (), 4), series(five, y, (), 2),
+                series(three, Function(three, [0, 1], [], [1]), ([0, 1], []), 3), series(five, y, wide, 2)]
+        self.assertEqual(told, [
+            (0, [[1], [3], [3], [4]]), (-2, [[1], [], [], []]), (-3, [[1], []]), (2, [[2], [], []]),
+            (0, [([], [1]), ([], [])])])
+
+    def test_begun_functions(self):
+        five, wide = self.five, self.wide
+        told = [begun(five, ([0, 1], [1]), (-1, [[2], [], [1]])) == Function(five, [2, 0, 1], [], [0, 1]),
+                local_sign(five, ()) == Function(five, [], [0, 1], [1, 1, 0, 1]),
+                is_series(five, wide, (0, [([], [])])), is_series(five, (), (-2, [[1], []]))]
+        self.assertEqual(told, [True, True, False, True])
+
+
+class BundlesTest(unittest.TestCase):
+    def setUp(self):
+        self.five = Curve(5, [1, 1, 0, 1])
+        self.one, self.other, self.third = ([0, 1], [1]), ([0, 1], [4]), ([1, 1], [2])
+        self.x, self.y = Function(self.five, [0, 1], [], [1]), Function(self.five, [], [1], [1])
+
+    def test_bundles(self):
+        five, one, other = self.five, self.one, self.other
+        told = [is_bundle(five, [((), -1), (one, 2)]), is_bundle(five, [(one, 2), ((), -1)]),
+                is_bundle(five, [(one, 0)]), number_at(five, [(one, 2)], other),
+                bundle_degree(five, [((), -1), (one, 2)])]
+        self.assertEqual(told, [True, False, False, 0, 1])
+
+    def test_sums_of_bundles(self):
+        five, one, other = self.five, self.one, self.other
+        told = [bundle_sum(five, [((), -1), (one, 2)], [((), 1), (other, 1)]), bundle_times(five, [(one, 2)], -2),
+                bundle_turned(five, [((), 3), (one, 2)])]
+        self.assertEqual(told, [[(([0, 1], [1]), 2), (([0, 1], [4]), 1)], [(([0, 1], [1]), -4)],
+                                [((), 3), (([0, 1], [4]), 2)]])
+
+    def test_bundles_of_functions(self):
+        told = [bundle_of(self.five, self.x), bundle_of(self.five, self.y), poles_of(self.five, self.y)]
+        self.assertEqual(told, [[((), -2), (([0, 1], [1]), 1), (([0, 1], [4]), 1)],
+                                [((), -3), (([1, 1, 0, 1], []), 1)], [((), 3)]])
+
+    def test_forms(self):
+        five, one = self.five, self.one
+        told = [form_of(five, [(one, 2)]), form_of(five, [((), -3), (([1, 1, 0, 1], []), 3)]),
+                form_bundle(five, ([0, 1], [1], [1], [], 0)), is_form(five, ([1], [1], [0, 1], [2], 0))]
+        self.assertEqual(told, [
+            ([1], [1], [0, 0, 1], [1, 3], 0), ([1, 1, 0, 1], [1], [1, 1, 0, 1], [], -3),
+            [(([0, 1], [1]), 1), (([0, 1], [4]), 1)], False])
+
+    def test_composed_forms(self):
+        five = self.five
+        low, high = form_of(five, [(self.one, 1)]), form_of(five, [(self.other, 1)])
+        told = [composed(five, low, low), composed(five, low, high), form_opposite(five, low),
+                shares(five, low, Function(five, [4], [1], [1])), shares(five, low, Function(five, [1], [], [1]))]
+        self.assertEqual(told, [
+            ([1], [1], [0, 0, 1], [1, 3], 0), ([0, 1], [1], [1], [], 0), ([1], [0, 1], [0, 1], [4], 0), ([], [1]), None])
+
+    def test_joined_bundles(self):
+        five, one, third = self.five, self.one, self.third
+        told = [least_form(five, [(one, 2)])[0],
+                is_joining(five, [(one, 2)], [((), 1), (third, 1)], Function(five, [4, 2], [1], [1, 1])),
+                joining(five, [(one, 1)], [((), 1)])]
+        self.assertEqual(told, [([1], [1], [1, 1], [2], 1), True, None])
+
+    def test_bundles_that_are_those_of_functions(self):
+        five = self.five
+        told = [is_of_function(five, bundle_of(five, self.x)), is_of_function(five, [((), -1), (self.one, 1)])]
+        self.assertEqual(told, [True, False])
 
 
 if __name__ == "__main__":

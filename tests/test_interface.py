@@ -21,6 +21,22 @@ FUNCTIONS = {
         "value_sum": ["curve", "place", "one", "other"], "value_product": ["curve", "place", "one", "other"],
         "value_quotient": ["curve", "place", "one", "other"], "value_norm": ["curve", "place", "value"],
         "value_trace": ["curve", "place", "value"]},
+    "curveheads.series": {
+        "value_at": ["curve", "function", "place"], "local_sign": ["curve", "place"],
+        "series": ["curve", "function", "place", "count"], "is_series": ["curve", "place", "value"],
+        "begun": ["curve", "place", "told"]},
+    "curveheads.bundles": {
+        "is_bundle": ["curve", "value"], "number_at": ["curve", "bundle", "place"],
+        "bundle_degree": ["curve", "bundle"], "bundle_sum": ["curve", "one", "other"],
+        "bundle_times": ["curve", "bundle", "count"], "bundle_turned": ["curve", "bundle"],
+        "bundle_of": ["curve", "function"], "poles_of": ["curve", "function"]},
+    "curveheads.forms": {
+        "is_form": ["curve", "value"], "form_of": ["curve", "bundle"], "form_bundle": ["curve", "form"],
+        "composed": ["curve", "one", "other"], "form_opposite": ["curve", "form"],
+        "shares": ["curve", "form", "function"]},
+    "curveheads.joined": {
+        "least_form": ["curve", "bundle"], "joining": ["curve", "one", "other"],
+        "is_joining": ["curve", "one", "other", "value"], "is_of_function": ["curve", "bundle"]},
 }
 CLASSES = {
     "curveheads.errors": {name: ["value"] for name in (

@@ -34,13 +34,15 @@ def great_function(curve, seed):
     return quotient_of(sum_of(top, product_of(side, y)), bottom)
 
 
-class LimitsTest(unittest.TestCase):
+class TimedTest(unittest.TestCase):
     def within_seconds(self, call, *arguments):
         start = time.perf_counter()
         told = call(*arguments)
         self.assertLess(time.perf_counter() - start, SECONDS, (call.__name__, arguments))
         return told
 
+
+class LimitsTest(TimedTest):
     def test_factors_of_the_power_60(self):
         for p in PRIMES:
             linear = [[number, 1] for number in range(p)]
