@@ -5,6 +5,8 @@ import unittest
 from curveheads.bundles import (
     bundle_degree, bundle_of, bundle_sum, bundle_times, bundle_turned, is_bundle, number_at, poles_of)
 from curveheads.curves import Curve
+from curveheads.differentials import (
+    differential_bundle, differential_order, differentials_above, is_above, parts_without_poles, without_poles)
 from curveheads.fields import value_norm, value_product, value_quotient, value_sum, value_trace
 from curveheads.forms import composed, form_bundle, form_of, form_opposite, is_form, shares
 from curveheads.functions import (
@@ -13,7 +15,9 @@ from curveheads.joined import is_joining, is_of_function, joining, least_form
 from curveheads.orders import order_at
 from curveheads.places import is_place, place_degree, place_turned, places_of, places_over
 from curveheads.primes import factors, how_many_primes, is_prime, primes_of
+from curveheads.reduced import least_two, lets, near_parts, nearly_lets, two_fars
 from curveheads.series import begun, is_series, local_sign, series, value_at
+from curveheads.spaces import dual, first_along, fixed_part, space_basis, space_made, space_parts, space_size
 
 
 class DocumentTest(unittest.TestCase):
@@ -181,6 +185,81 @@ class BundlesTest(unittest.TestCase):
         five = self.five
         told = [is_of_function(five, bundle_of(five, self.x)), is_of_function(five, [((), -1), (self.one, 1)])]
         self.assertEqual(told, [True, False])
+
+
+class SpacesTest(unittest.TestCase):
+    def setUp(self):
+        self.five, self.plain, self.turned = Curve(5, [1, 1, 0, 1]), ([0, 1], [1]), ([0, 1], [4])
+        self.pole, self.two = [(self.plain, 1)], [(self.plain, 2), (self.turned, -1)]
+        self.three = [((), 2), (self.plain, 1)]
+        self.number, self.slant = Function(self.five, [1], [], [1]), Function(self.five, [1], [1], [0, 1])
+
+    def test_functions_that_are_let(self):
+        five, pole, two = self.five, self.pole, self.two
+        told = [lets(five, pole, self.number), lets(five, pole, self.slant), nearly_lets(five, pole, self.slant),
+                nearly_lets(five, two, self.number), two_fars(five, pole), two_fars(five, two),
+                two_fars(five, [(self.plain, -2)])]
+        self.assertEqual(told, [True, False, True, False, (0, 1), (0, 1), (4, 3)])
+
+    def test_the_least_two(self):
+        five, pole, two = self.five, self.pole, self.two
+        told = [least_two(five, pole) == (self.number, self.slant), least_two(five, two) == (
+            Function(five, [2, 1, 1], [2], [0, 0, 1]), Function(five, [4, 3], [4, 1], [0, 0, 1])),
+                near_parts(five, pole, Function(five, [1, 0, 1], [1], [0, 1])), near_parts(five, two, self.number)]
+        self.assertEqual(told, [True, True, ([0, 1], [1]), None])
+
+    def test_spaces(self):
+        five, pole, three = self.five, self.pole, self.three
+        told = [space_size(five, three),
+                space_basis(five, three) == [self.number, self.slant, Function(five, [0, 1], [], [1])],
+                space_parts(five, three, Function(five, [1, 0, 2], [1], [0, 1])),
+                space_made(five, three, [3, 0, 1]) == Function(five, [3, 1], [], [1]), space_size(five, pole),
+                space_basis(five, [((), -1)])]
+        self.assertEqual(told, [3, True, [0, 1, 2], True, 1, []])
+
+    def test_duals_and_fixed_parts(self):
+        five, plain = self.five, self.plain
+        told = [dual(five, self.three), space_size(five, dual(five, self.three)), fixed_part(five, self.pole),
+                fixed_part(five, [(plain, 1), (self.turned, 1)]), fixed_part(five, [(plain, -1)])]
+        self.assertEqual(told, [[((), -2), (([0, 1], [1]), -1)], 0, [(([0, 1], [1]), 1)], [], None])
+
+    def test_first_functions(self):
+        five, plain, pole = self.five, self.plain, self.pole
+        told = [first_along(five, [(plain, -2)], ()) == (3, Function(five, [4, 2], [1], [1])),
+                first_along(five, pole, ()) == (0, self.number), first_along(five, pole, plain) == (-1, self.number),
+                space_size(five, [(([4, 1], None), 1)])]
+        self.assertEqual(told, [True, True, True, 2])
+
+
+class DifferentialsTest(unittest.TestCase):
+    def setUp(self):
+        self.five, self.three = Curve(5, [1, 1, 0, 1]), Curve(3, [1, 2, 0, 0, 0, 1])
+        self.one, self.two, self.bend = ([0, 1], [1]), ([0, 1], [4]), ([1, 1, 0, 1], [])
+        self.over_x = Function(self.five, [1], [], [0, 1])
+        self.over_y = Function(self.five, [], [1], [1, 1, 0, 1])
+
+    def test_orders(self):
+        five, over_x, over_y, bend = self.five, self.over_x, self.over_y, self.bend
+        told = [differential_order(five, over_x, ()), differential_order(five, over_x, bend),
+                differential_order(five, over_y, bend), differential_bundle(five, over_x),
+                differential_bundle(five, over_y)]
+        self.assertEqual(told, [-1, 1, 0, [
+            ((), -1), (([0, 1], [1]), -1), (([0, 1], [4]), -1), (([1, 1, 0, 1], []), 1)], []])
+
+    def test_differentials_above(self):
+        five, three = self.five, self.three
+        told = [len(differentials_above(five, [((), -2)])),
+                is_above(five, self.over_x, [((), -1), (self.one, -1), (self.two, -2)]),
+                is_above(five, self.over_x, []), without_poles(three) == [
+                    Function(three, [], [1], [1, 2, 0, 0, 0, 1]), Function(three, [], [0, 1], [1, 2, 0, 0, 0, 1])]]
+        self.assertEqual(told, [2, True, False, True])
+
+    def test_parts_without_poles(self):
+        five, three = self.five, self.three
+        told = [parts_without_poles(five, Function(five, [], [2], [1, 1, 0, 1])),
+                parts_without_poles(three, Function(three, [], [2, 1], [1, 2, 0, 0, 0, 1])),
+                parts_without_poles(five, self.over_x)]
+        self.assertEqual(told, [[2], [2, 1], None])
 
 
 if __name__ == "__main__":

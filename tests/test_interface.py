@@ -37,6 +37,19 @@ FUNCTIONS = {
     "curveheads.joined": {
         "least_form": ["curve", "bundle"], "joining": ["curve", "one", "other"],
         "is_joining": ["curve", "one", "other", "value"], "is_of_function": ["curve", "bundle"]},
+    "curveheads.reduced": {
+        "lets": ["curve", "bundle", "function"], "nearly_lets": ["curve", "bundle", "function"],
+        "least_two": ["curve", "bundle"], "two_fars": ["curve", "bundle"],
+        "near_parts": ["curve", "bundle", "function"]},
+    "curveheads.spaces": {
+        "space_basis": ["curve", "bundle"], "space_size": ["curve", "bundle"],
+        "space_parts": ["curve", "bundle", "function"], "space_made": ["curve", "bundle", "numbers"],
+        "dual": ["curve", "bundle"], "fixed_part": ["curve", "bundle"],
+        "first_along": ["curve", "bundle", "place"]},
+    "curveheads.differentials": {
+        "differential_order": ["curve", "z", "place"], "differential_bundle": ["curve", "z"],
+        "differentials_above": ["curve", "bundle"], "is_above": ["curve", "z", "bundle"],
+        "without_poles": ["curve"], "parts_without_poles": ["curve", "z"]},
 }
 CLASSES = {
     "curveheads.errors": {name: ["value"] for name in (
