@@ -2,9 +2,11 @@
 
 from curveheads.bundles import check_bundle, degree_of_bundle, joint_bundle, multiple_of_bundle, number_there
 from curveheads.curves import check_curve
-from curveheads.forms import made_form, missing_of, shares_of
-from curveheads.functions import Function, far_order, function_of, product_of, quotient_of
-from curveheads.polynomials import poly_divided, poly_less, poly_monic, poly_rest
+from curveheads.forms import joint_form, made_form, opposite_of, shares_of
+from curveheads.functions import Function, far_order, function_of, norm_of_pair, quotient_of
+from curveheads.polynomials import (
+    poly_bezout, poly_common, poly_divided, poly_less, poly_monic, poly_product, poly_rest)
+from curveheads.reduced import pair_height, reduced_pairs
 
 
 def least_form(curve, bundle):
@@ -53,12 +55,23 @@ def least_joined(curve, bundle):
     """The least form of a bundle, and a function by whose bundle the bundle is more than that of the form."""
     p = curve.prime()
     top, bottom, u, v, _ = made_form(curve, bundle)
-    function = function_of(curve, top, [], bottom)
-    while len(u) - 1 > curve.genus():
-        # u times its cofactor in f - v * v is, but for a number, the norm of y - v: so the bundle of u and v is more
-        # than that of the cofactor and the opposite of v by the bundle of y - v, divided by the cofactor.
-        cofactor = poly_monic(p, poly_divided(p, missing_of(curve, v), u)[0])
-        opposite = poly_less(p, [], v)
-        function = product_of(function, function_of(curve, opposite, [1], cofactor))
-        u, v = cofactor, poly_rest(p, opposite, cofactor)
-    return ([1], [1], u, v, degree_of_bundle(bundle) - len(u) + 1), function
+    even, odd = reduced_pairs(curve, u, v)
+    a, b = even if pair_height(curve, even) < pair_height(curve, odd) else odd
+    # Of all functions that have the zeros which u and y - v have in common, a + b * y has the fewest others: no more
+    # than the genus tells. The places turned about make up a function with these, and nought else at near places.
+    opposite = opposite_of(curve, ([1], [1], u, v, 0))
+    _, _, others, root, _ = joint_form(curve, form_of_pair(curve, a, b), opposite)
+    function = function_of(
+        curve, poly_product(p, top, a), poly_product(p, top, b), poly_product(p, bottom, others))
+    return ([1], [1], others, poly_less(p, [], root), degree_of_bundle(bundle) - len(others) + 1), function
+
+
+def form_of_pair(curve, a, b):
+    """The form of the bundle of the function a + b * y, not nought, but for its number at the far place."""
+    p = curve.prime()
+    shared = poly_common(p, a, b)
+    a, b = poly_divided(p, a, shared)[0], poly_divided(p, b, shared)[0]
+    norm = poly_monic(p, norm_of_pair(curve, a, b))
+    # Where the norm is nought, y is nought less a / b, as no prime polynomial divides b and the norm.
+    turn = poly_bezout(p, norm, b)[2]
+    return shared, [1], norm, poly_rest(p, poly_product(p, poly_less(p, [], a), turn), norm), 0

@@ -151,8 +151,9 @@ def begun_inverse(p, one, size):
         known = min(2 * len(found), size)
         error = poly_less(p, [1], poly_trimmed(poly_product(p, found, one[:known])[:known]))
         more = poly_product(p, found, error)[:known]
-        found = [*found, *[0] * (known - len(found))]
-        found = [(left + right) % p for left, right in zip(found, [*more, *[0] * (known - len(more))])]
+        more = more + [0] * (known - len(more))
+        found = found + [0] * (known - len(found))
+        found = [(left + right) % p for left, right in zip(found, more)]
     return found
 
 

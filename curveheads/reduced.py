@@ -69,8 +69,14 @@ def least_pairs(curve, bundle):
     Both are pairs of polynomials, the parts without y and with y: what they tell, times top and divided by bottom, are
     the functions.
     """
-    p = curve.prime()
     top, bottom, u, v, _ = zeros_form(curve, bundle)
+    even, odd = reduced_pairs(curve, u, v)
+    return top, bottom, even, odd
+
+
+def reduced_pairs(curve, u, v):
+    """The least two functions among the sums of multiples by polynomials of u and y - v, as pairs of polynomials."""
+    p = curve.prime()
     even, odd = (u, []), (poly_less(p, [], v), [1])
     while pair_height(curve, odd) % 2 == 0:
         # With two even heights the parts without y tell both: the lesser pair is taken from the other one, as in a
@@ -80,10 +86,8 @@ def least_pairs(curve, bundle):
         odd = pair_less(p, odd, even, 0)
     even, odd = led_by_one(p, even, 0), led_by_one(p, odd, 1)
     if pair_height(curve, even) < pair_height(curve, odd):
-        odd = pair_less(p, odd, even, 0)
-    else:
-        even = pair_less(p, even, odd, 1)
-    return top, bottom, even, odd
+        return even, pair_less(p, odd, even, 0)
+    return pair_less(p, even, odd, 1), odd
 
 
 def pair_height(curve, pair):

@@ -103,19 +103,20 @@ def product(p, polynomials):
     for one in polynomials:
         sums = [0] * (len(found) + len(one) - 1)
         for i, left in enumerate(found):
-            for j, right in enumerate(one):
-                sums[i + j] = (sums[i + j] + left * right) % p
-        found = sums
+            if left:
+                for at, right in enumerate(one, i):
+                    sums[at] += left * right
+        found = [number % p for number in sums]
     return found
 
 
 def rest_of(p, one, monic):
     """What a monic polynomial leaves of a polynomial, with noughts at the end."""
-    rest = list(one)
-    for at in range(len(one) - len(monic), -1, -1):
-        times = rest[at + len(monic) - 1]
-        for k, number in enumerate(monic):
-            rest[at + k] = (rest[at + k] - times * number) % p
+    rest, size = list(one), len(monic)
+    for at in range(len(one) - size, -1, -1):
+        times = rest[at + size - 1]
+        if times:
+            rest[at:at + size] = [(left - times * right) % p for left, right in zip(rest[at:at + size], monic)]
     return rest
 
 

@@ -5,6 +5,7 @@ import unittest
 from curveheads.bundles import is_bundle
 from curveheads.differentials import (
     differential_bundle, differential_order, differentials_above, is_above, parts_without_poles, without_poles)
+from curveheads.forms import form_of
 from curveheads.functions import Function, product_of, quotient_of
 from curveheads.places import places_of
 from curveheads.reduced import least_two, lets, near_parts, nearly_lets, two_fars
@@ -18,32 +19,37 @@ from tests.space_samples import degree_of
 from tests.test_limits import TimedTest, great_function, great_polynomial
 
 
-def of_degrees(curve, above, below, places):
-    """A bundle of at most 12 places, whose numbers, times the degrees, sum to about so much above 0 and below it."""
-    told, left = [], [above, below]
-    for at, place in enumerate(places[:12]):
-        degree = reckoning.degree(place)
-        number = min(30, left[at % 2] // degree, 1 + at * 3)
-        left[at % 2] -= number * degree
-        told.append((place, number if at % 2 == 0 else -number))
-    if left[0] and 0 < left[0] <= 30 and () not in places[:12]:
-        told.append(((), left[0]))
-    return in_order(told)
+def summing_to(places, wanted):
+    """Places with numbers of one sign, none above 30, that sum to about so much, each times the degree of its place."""
+    sign, left = 1 if wanted > 0 else -1, abs(wanted) - sum(reckoning.degree(place) for place in places)
+    told = []
+    for place in places:
+        more = max(0, min(29, left // reckoning.degree(place)))
+        left -= more * reckoning.degree(place)
+        told.append((place, sign * (1 + more)))
+    return told
+
+
+def of_twelve_places(curve):
+    """Bundles of twelve places of all sorts, of low degrees: with numbers above 0 alone, below 0 alone, and both."""
+    told = sorted(low_places(curve), key=reckoning.degree)
+    plain, others = [place for place in told if place[1]], [(), *[place for place in told if not place[1]][:4]]
+    if not any(place and place[1] == [] for place in others):
+        others[-1:] = branches(curve)[:1]
+    every = others + plain[:12 - len(others)]
+    return [summing_to(every, 40), summing_to(every, -40), summing_to(every[1::2], 20) + summing_to(every[::2], -20),
+            summing_to(plain[:6], 36) + summing_to(others + plain[6:7], -40)]
 
 
 def great_bundles(curve):
     """Bundles at the limits: of one place, of twelve, and with places over prime polynomials of the power 12."""
-    plain = [place for place in low_places(curve) if place[1]]
-    wide = [place for place in low_places(curve) if place[1] is None]
     one, other = plain_and_turned(curve)
     high, high_wide, e = plain_place(curve, 12), wide_place(curve, 12), reckoning.degree(one)
-    mixed = [*plain[:3], *wide[:2], *branches(curve)[:1], *plain[6:11]]
     found = [
-        [(one, 30 // e)], [(one, -30 // e)], [(one, 30 // e), (other, -30 // e)], [((), 30), (one, 10 // e)],
-        [((), -30), (other, 30 // e)], of_degrees(curve, 40, 40, mixed), of_degrees(curve, 40, 0, mixed[::2] + plain[20:26]),
-        of_degrees(curve, 0, 40, mixed), of_degrees(curve, 39, 40, [()] + mixed), [(high, 3)], [(high, -3)],
-        [(high_wide, 1)], [(high, -1), (high_wide, -1)], [((), 16), (high, -2), (high_wide, 1)], [((), 30)], [((), -30)]]
-    return [in_order(bundle) for bundle in found]
+        [(one, 30 // e)], [(one, -30 // e)], [(one, 20 // e), (other, -20 // e)], [((), 30), (one, 10 // e)],
+        [((), -30), (other, 30 // e)], [(high, 3)], [(high, -3)], [(high_wide, 1)], [(high, -1), (high_wide, -1)],
+        [((), 16), (high, -2), (high_wide, 1)], [((), 30)], [((), -30)]]
+    return [in_order(bundle) for bundle in found + of_twelve_places(curve)]
 
 
 class SpacesLimitsTest(TimedTest):
@@ -53,16 +59,19 @@ class SpacesLimitsTest(TimedTest):
                 told = great_bundles(curve)
                 for bundle in told:
                     self.assertIs(is_bundle(curve, bundle), True)
-                    self.assertLess(len(bundle), 13)
                     self.assertTrue(all(abs(number) < 31 for _, number in bundle))
                     ends = [number * reckoning.degree(place) for place, number in bundle]
-                    self.assertLessEqual(sum(end for end in ends if end > 0), 40)
-                    self.assertGreaterEqual(sum(end for end in ends if end < 0), -40)
-                self.assertGreater(max(len(bundle) for bundle in told), 9)
+                    self.assertLess(sum(end for end in ends if end > 0), 41)
+                    self.assertGreater(sum(end for end in ends if end < 0), -41)
+                    self.assertLess(max(len(part) for part in form_of(curve, bundle)[:4]), 42)
+                self.assertEqual([len(bundle) for bundle in told[-4:]], [12] * 4)
+                degrees = [degree_of(bundle) for bundle in told]
+                self.assertGreater(max(degrees), 36)
+                self.assertLess(min(degrees), -36)
 
     def test_least_two(self):
         for p in PRIMES:
-            for curve in curves_over(p)[1::2]:
+            for curve in curves_over(p)[p % 4::4]:
                 great = great_function(curve, 1)
                 for bundle in great_bundles(curve):
                     even, odd = self.within_seconds(least_two, curve, bundle)
@@ -78,7 +87,7 @@ class SpacesLimitsTest(TimedTest):
 
     def test_spaces(self):
         for p in PRIMES:
-            for curve in curves_over(p)[1::2]:
+            for curve in curves_over(p)[p % 4::4]:
                 great = great_function(curve, 2)
                 places = places_of(curve, 1)
                 for bundle in great_bundles(curve):
@@ -101,7 +110,7 @@ class SpacesLimitsTest(TimedTest):
 class DifferentialsLimitsTest(TimedTest):
     def test_bundles(self):
         for p in PRIMES:
-            for curve in curves_over(p)[1::2]:
+            for curve in curves_over(p)[p % 4::4]:
                 great = great_function(curve, 3)
                 for bundle in great_bundles(curve):
                     told = self.within_seconds(differentials_above, curve, bundle)
@@ -111,7 +120,7 @@ class DifferentialsLimitsTest(TimedTest):
 
     def test_functions_of_the_power_200(self):
         for p in PRIMES:
-            for curve in curves_over(p)[1::2]:
+            for curve in curves_over(p)[p % 4::4]:
                 great = great_function(curve, 4)
                 for place in [(), *branches(curve), plain_place(curve, 12), wide_place(curve, 12)]:
                     self.assertIs(type(self.within_seconds(differential_order, curve, great, place)), int)

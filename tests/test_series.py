@@ -211,11 +211,14 @@ class SeriesTest(unittest.TestCase):
 
     def test_the_first_values_do_not_hang_on_the_count(self):
         for curve in all_curves()[::3]:
-            for place in places_of_all_sorts(curve):
-                for one in plain_functions(curve)[3:]:
-                    order, values = self.assert_series(curve, one, place, 24)
+            for at, place in enumerate(places_of_all_sorts(curve)):
+                for by, one in enumerate(plain_functions(curve)[3:]):
+                    order, values = series(curve, one, place, 24)
+                    self.assertEqual(len(values), 24)
                     for count in (1, 2, 5, 23):
                         self.assertEqual(series(curve, one, place, count), (order, values[:count]))
+                    if (at + by + curve.prime()) % 10 == 0:
+                        self.assert_series(curve, one, place, 24)
 
     def test_the_far_place_by_hand(self):
         curve = Curve(3, [1, 1])
@@ -226,9 +229,9 @@ class SeriesTest(unittest.TestCase):
         self.assertEqual(series(curve, quotient_of(y, x), (), 6), (1, [[1], [], [1], [], [1], []]))
 
     def test_orders_of_40_and_less(self):
-        for curve in all_curves()[::5]:
-            for place in places_of_all_sorts(curve):
-                for order in (-40, -39, -1, 0, 1, 39, 40):
+        for curve in all_curves()[::7]:
+            for at, place in enumerate(places_of_all_sorts(curve)):
+                for order in (-40, 40, [-39, -1, 39][at % 3]):
                     told = mixed_series(curve, place, order, order, 3)
                     self.assertIs(is_series(curve, place, told), True)
                     one = begun(curve, place, told)

@@ -204,7 +204,7 @@ class FixedPartTest(unittest.TestCase):
     def test_bundles(self):
         many = [0, 0, 0]
         for curve in all_curves():
-            for bundle in samples(curve, 8):
+            for bundle in samples(curve, 8)[curve.genus() % 2::2]:
                 told = self.assert_fixed_part(curve, bundle)
                 many[0 if told is None else 1 if told == [] else 2] += 1
         self.assertGreater(min(many), 50)
@@ -213,7 +213,7 @@ class FixedPartTest(unittest.TestCase):
         # What one function alone has beyond what is asked for may be at places that the bundle doesn't name.
         found = 0
         for curve in [one for p in PRIMES for one in curves_over(p) if one.genus() > 1]:
-            for bundle in samples(curve, 9, 4):
+            for bundle in samples(curve, 9, 2)[::2]:
                 for degree in range(curve.genus() + 1):
                     told = self.assert_fixed_part(curve, with_degree(bundle, degree))
                     found += bool(told) and any(place not in [one for one, _ in bundle] for place, _ in told if place)
