@@ -12,7 +12,7 @@ from curveheads.series import begun, is_series, local_sign, series, value_at
 from tests import reckoning
 from tests.bundle_samples import in_order, places_to_take, plain_and_turned
 from tests.place_samples import branches, low_places, plain_place, wide_place
-from tests.samples import PRIMES, Stream, curves_over, first_primes
+from tests.samples import PRIMES, curves_over, first_primes
 from tests.test_limits import TimedTest, great_function, great_polynomial
 from tests.test_series import mixed_series
 
