@@ -33,8 +33,7 @@ def differentials_above(curve, bundle):
     """The list of functions the sums of whose multiples by numbers tell just the differentials above a bundle."""
     check_curve(curve)
     check_bundle(curve, bundle)
-    over_y = function_of(curve, [], [1], curve.polynomial())
-    return [product_of(function, over_y) for function in basis_of(curve, dual_of(curve, bundle))]
+    return basis_above(curve, bundle)
 
 
 def is_above(curve, z, bundle):
@@ -42,7 +41,7 @@ def is_above(curve, z, bundle):
     check_curve(curve)
     check_function_on(curve, z)
     check_bundle(curve, bundle)
-    return is_let(dual_of(curve, bundle), times_y(z))
+    return stands_above(z, bundle)
 
 
 def without_poles(curve):
@@ -60,6 +59,17 @@ def parts_without_poles(curve, z):
     if found.side() or found.bottom() != [1] or len(numbers) > curve.genus():
         return None
     return numbers + [0] * (curve.genus() - len(numbers))
+
+
+def basis_above(curve, bundle):
+    """The list of functions the sums of whose multiples by numbers tell just the differentials above a bundle."""
+    over_y = function_of(curve, [], [1], curve.polynomial())
+    return [product_of(function, over_y) for function in basis_of(curve, dual_of(curve, bundle))]
+
+
+def stands_above(z, bundle):
+    """Whether a differential is above a bundle."""
+    return is_let(dual_of(z.curve(), bundle), times_y(z))
 
 
 def order_of_dx(place):

@@ -35,14 +35,7 @@ def value_norm(curve, place, value):
     check_curve(curve)
     check_place(curve, place)
     check_value(curve, place, value)
-    p, q = curve.prime(), prime_at(place)
-    if is_wide(place):
-        # The powers come in pairs that differ by the sign of y: the product of such a pair takes its place.
-        value = wide_norm(curve, q, value)
-    taken = [1]
-    for one in conjugates(p, q, value):
-        taken = rest_product(p, q, taken, one)
-    return as_number(taken)
+    return norm_there(curve, place, value)
 
 
 def value_trace(curve, place, value):
@@ -106,6 +99,18 @@ def value_inverse(curve, place, value):
         return rest_inverse(p, q, value)
     turn = rest_inverse(p, q, wide_norm(curve, q, value))
     return rest_product(p, q, value[0], turn), rest_product(p, q, poly_less(p, [], value[1]), turn)
+
+
+def norm_there(curve, place, value):
+    """The number that is the product of the powers of a value with the exponents 1, p, p * p and so on."""
+    p, q = curve.prime(), prime_at(place)
+    if is_wide(place):
+        # The powers come in pairs that differ by the sign of y: the product of such a pair takes its place.
+        value = wide_norm(curve, q, value)
+    taken = [1]
+    for one in conjugates(p, q, value):
+        taken = rest_product(p, q, taken, one)
+    return as_number(taken)
 
 
 def wide_norm(curve, q, value):

@@ -189,6 +189,15 @@ def function_of(curve, top, side, bottom):
     return found
 
 
+def sum_of_multiples(curve, numbers, functions):
+    """The sum of functions on a curve, each times a number."""
+    found = function_of(curve, [], [], [1])
+    for number, one in zip(numbers, functions):
+        if number != 0:
+            found = sum_of(found, product_of(function_of(curve, [number], [], [1]), one))
+    return found
+
+
 def lowest_terms(p, top, side, bottom):
     """Three polynomials, the last not nought, without a factor that divides all of them, the last one monic."""
     shared = poly_common(p, poly_common(p, bottom, top), side)

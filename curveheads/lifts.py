@@ -56,3 +56,21 @@ def digits_by(p, modulus, one, count):
         found.append(rest)
         one = poly_product(p, one, bend)
     return found
+
+
+def shifted_quotient(p, q, top, bottom, shift, count):
+    """The quotient of two polynomials, times q so many times, up to multiples of q taken count times.
+
+    No q is left below: the polynomial that is returned is of a lower power than q taken count times.
+    """
+    if not top:
+        return []
+    above, top = taken_out(p, top, q)
+    below, bottom = taken_out(p, bottom, q)
+    times = shift + above - below
+    if times >= count:
+        return []
+    high = poly_power(p, q, count)
+    turn = rest_inverse(p, high, poly_rest(p, bottom, high))
+    found = poly_product(p, poly_rest(p, top, high), poly_product(p, turn, poly_power(p, q, times)))
+    return poly_rest(p, found, high)

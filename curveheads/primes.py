@@ -1,9 +1,10 @@
 """Prime polynomials: which they are, how many, and which divide a polynomial."""
 
 from curveheads.errors import InvalidNumber, InvalidPolynomial, TooMany
+from curveheads.linear import null_lists
 from curveheads.polynomials import (
-    MOST_POWER, check_polynomial, check_prime, inverse, is_polynomial, is_whole, poly_common, poly_divided,
-    poly_less, poly_monic, poly_product, poly_rest, poly_slope, poly_sum, poly_trimmed)
+    MOST_POWER, check_polynomial, check_prime, is_polynomial, is_whole, poly_common, poly_divided, poly_less,
+    poly_monic, poly_product, poly_rest, poly_slope, poly_sum, poly_trimmed)
 from curveheads.rests import rest_power
 
 MOST_PRIME_POWER = 12
@@ -175,40 +176,3 @@ def stable_rests(p, one):
         image = poly_divided(p, [0] * p + image, one)[1]
     rows = [[column[row] for column in images] for row in range(size)]
     return [poly_trimmed(numbers) for numbers in null_lists(p, rows, size)]
-
-
-def null_lists(p, rows, size):
-    """Independent lists of numbers by which the columns of rows of a size sum to nought: all are sums of them."""
-    rows, heads = cleared_rows(p, rows, size)
-    found = []
-    for free in range(size):
-        if free not in heads:
-            numbers = [0] * size
-            numbers[free] = 1
-            for row, head in zip(rows, heads):
-                numbers[head] = -row[free] % p
-            found.append(numbers)
-    return found
-
-
-def cleared_rows(p, rows, size):
-    """Rows with the same null lists, and the columns at which the first of them alone have a 1."""
-    heads = []
-    for column in range(size):
-        done = len(heads)
-        able = [at for at in range(done, len(rows)) if rows[at][column] != 0]
-        if able:
-            turn = inverse(p, rows[able[0]][column])
-            lead = [number * turn % p for number in rows[able[0]]]
-            others = [rows[at] for at in range(len(rows)) if at != able[0]]
-            cleared = [row_less(p, row, lead, row[column]) for row in others]
-            rows = cleared[:done] + [lead] + cleared[done:]
-            heads.append(column)
-    return rows, heads
-
-
-def row_less(p, row, lead, times):
-    """A row less another one so many times."""
-    if times == 0:
-        return row
-    return [(left - times * right) % p for left, right in zip(row, lead)]

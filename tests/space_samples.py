@@ -1,9 +1,9 @@
-"""Bundles of told degrees, and what a bundle lets by the orders alone."""
+"""Bundles of told degrees, and what a bundle lets, and is below, by the orders alone."""
 
-from curveheads.functions import Function
+from curveheads.functions import Function, product_of
 from tests import reckoning
 from tests.bundle_samples import in_order, mixed_bundles, some_bundles
-from tests.samples import tops, wrong_functions
+from tests.samples import Stream, plain_functions, tops, trimmed, wrong_functions
 
 
 def degree_of(bundle):
@@ -55,3 +55,30 @@ def functions_of_other_curves(curve):
     others = [type(curve)(curve.prime(), [1, 1]), type(curve)(3 if curve.prime() > 3 else 5, [1, 1])]
     found = [Function(other, *one) for other in others for one in [([1], [], [1]), ([], [1], [1]), ([], [], [1])]]
     return wrong_functions() + found
+
+
+def order_of(curve, z, place):
+    """The order of a differential, by that of its function."""
+    found = reckoning.order(curve.prime(), curve.polynomial(), tops(z), place)
+    return found - 3 if not place else found + 1 if place[1] == [] else found
+
+
+def times_y(curve, z):
+    return product_of(z, Function(curve, [], [1], [1]))
+
+
+def is_above_by_orders(curve, z, bundle):
+    """Whether a differential is above a bundle: z * dx is z * y times dx / y, whose only zero is the far place."""
+    opposite = [(place, -number) for place, number in bundle if place]
+    far = 2 * curve.genus() - 2 - sum(number for place, number in bundle if not place)
+    return is_let(curve, [((), far)] * bool(far) + opposite, times_y(curve, z))
+
+
+def low_functions(curve, seed, many):
+    """Functions whose norms have no prime factors of a power above 12."""
+    p, stream = curve.prime(), Stream(seed)
+    found = [one for one in plain_functions(curve) if one]
+    for at in range(many):
+        top, side = stream.full_polynomial(p, at % 6), stream.polynomial(p, min(2, at % 4))
+        found.append(Function(curve, top, trimmed(side), stream.full_polynomial(p, at % 4)))
+    return found

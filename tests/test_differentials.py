@@ -17,34 +17,8 @@ from tests.place_samples import branches, low_places, plain_place, some_places, 
 from tests.samples import (
     PRIMES, Stream, all_curves, assert_each_refused, assert_no_list_twice, curves_over, lists_within,
     mixed_functions, plain_functions, tops, trimmed, wrong_curves)
-from tests.space_samples import degree_of, functions_of_other_curves, is_let, samples
-
-
-def order_of(curve, z, place):
-    """The order of a differential, by that of its function."""
-    found = reckoning.order(curve.prime(), curve.polynomial(), tops(z), place)
-    return found - 3 if not place else found + 1 if place[1] == [] else found
-
-
-def times_y(curve, z):
-    return product_of(z, Function(curve, [], [1], [1]))
-
-
-def is_above_by_orders(curve, z, bundle):
-    """Whether a differential is above a bundle: z * dx is z * y times dx / y, whose only zero is the far place."""
-    opposite = [(place, -number) for place, number in bundle if place]
-    far = 2 * curve.genus() - 2 - sum(number for place, number in bundle if not place)
-    return is_let(curve, [((), far)] * bool(far) + opposite, times_y(curve, z))
-
-
-def low_functions(curve, seed, many):
-    """Functions whose norms have no prime factors of a power above 12."""
-    p, stream = curve.prime(), Stream(seed)
-    found = [one for one in plain_functions(curve) if one]
-    for at in range(many):
-        top, side = stream.full_polynomial(p, at % 6), stream.polynomial(p, min(2, at % 4))
-        found.append(Function(curve, top, trimmed(side), stream.full_polynomial(p, at % 4)))
-    return found
+from tests.space_samples import (
+    degree_of, functions_of_other_curves, is_above_by_orders, low_functions, order_of, samples)
 
 
 class OrdersTest(unittest.TestCase):

@@ -5,17 +5,21 @@ import unittest
 from curveheads.bundles import (
     bundle_degree, bundle_of, bundle_sum, bundle_times, bundle_turned, is_bundle, number_at, poles_of)
 from curveheads.curves import Curve
+from curveheads.descents import descent, descent_bundle, descent_matrix, points_rest, standing
 from curveheads.differentials import (
     differential_bundle, differential_order, differentials_above, is_above, parts_without_poles, without_poles)
 from curveheads.fields import value_norm, value_product, value_quotient, value_sum, value_trace
 from curveheads.forms import composed, form_bundle, form_of, form_opposite, is_form, shares
 from curveheads.functions import (
     Function, far_order, lead, less_of, norm, power_of, product_of, pth_root, quotient_of, slope, sum_of, trace, turned)
+from curveheads.heads import bar_numbers, fits, fitting, heads_with, how_many_fit, is_bar, least_far
 from curveheads.joined import is_joining, is_of_function, joining, least_form
 from curveheads.orders import order_at
+from curveheads.parts import of_parts, parts
 from curveheads.places import is_place, place_degree, place_turned, places_of, places_over
 from curveheads.primes import factors, how_many_primes, is_prime, primes_of
 from curveheads.reduced import least_two, lets, near_parts, nearly_lets, two_fars
+from curveheads.residues import has_residues, residue, residues, with_residues
 from curveheads.series import begun, is_series, local_sign, series, value_at
 from curveheads.spaces import dual, first_along, fixed_part, space_basis, space_made, space_parts, space_size
 
@@ -260,6 +264,88 @@ class DifferentialsTest(unittest.TestCase):
                 parts_without_poles(three, Function(three, [], [2, 1], [1, 2, 0, 0, 0, 1])),
                 parts_without_poles(five, self.over_x)]
         self.assertEqual(told, [[2], [2, 1], None])
+
+    def test_residues(self):
+        five, over_x, one = self.five, self.over_x, self.one
+        told = [residue(five, over_x, one), residue(five, over_x, ()),
+                residue(five, Function(five, [1], [], [4, 1]), ([4, 1], None)), residues(five, over_x),
+                residues(five, Function(five, [], [1], [0, 1]))]
+        self.assertEqual(told, [1, 3, 2, [((), 3), (([0, 1], [1]), 1), (([0, 1], [4]), 1)],
+                                [(([0, 1], [1]), 1), (([0, 1], [4]), 4)]])
+
+    def test_residues_at_a_wide_place(self):
+        five = self.five
+        wide, taken = ([2, 0, 1], None), Function(five, [0, 0, 0, 1], [], [4, 0, 4, 0, 1])
+        told = [residue(five, taken, wide), residue(five, taken, ()), residues(five, taken)]
+        self.assertEqual(told, [2, 3, [((), 3), (([2, 0, 1], None), 2)]])
+
+    def test_told_residues(self):
+        five, one, two = self.five, self.one, self.two
+        both = Function(five, [], [1], [0, 1, 1, 0, 1])
+        told = [has_residues(five, both, [(one, 1), (two, 4)]),
+                has_residues(five, self.over_x, [(one, 1), (two, 1)]), with_residues(five, [(one, 1)]),
+                with_residues(five, [(one, 2), (two, 3)]) is None]
+        self.assertEqual(told, [True, False, None, False])
+
+
+class HeadsTest(unittest.TestCase):
+    def setUp(self):
+        self.five = Curve(5, [1, 1, 0, 1])
+        self.one, self.two = ([0, 1], [1]), ([0, 1], [4])
+        self.over_x, self.over_y = Function(self.five, [1], [], [0, 1]), Function(self.five, [], [1], [1, 1, 0, 1])
+
+    def test_what_fits(self):
+        five, one, two, over_x = self.five, self.one, self.two, self.over_x
+        told = [fits(five, [], [(one, over_x), (two, over_x)], over_x), fits(five, [], [(one, over_x)], over_x),
+                fits(five, [(two, 1)], [(one, over_x)], over_x),
+                fits(five, [((), 2), (one, -1)], [], Function(five, [0, 1], [], [1])),
+                fits(five, [((), 2), (one, -1)], [], Function(five, [3], [], [1]))]
+        self.assertEqual(told, [True, False, True, True, False])
+
+    def test_bars(self):
+        five, one, two, over_x, over_y = self.five, self.one, self.two, self.over_x, self.over_y
+        told = [is_bar(five, [], [(one, over_x)], over_y), is_bar(five, [], [(one, over_x), (two, over_x)], over_y),
+                fitting(five, [], [(one, over_x)])[0], fitting(five, [], [(one, over_x), (two, over_x)])[0],
+                how_many_fit(five, [], [(one, over_x)])]
+        self.assertEqual(told, [True, False, "barred", "fits", 0])
+
+    def test_numbers(self):
+        five, one, two, over_x = self.five, self.one, self.two, self.over_x
+        told = [how_many_fit(five, [], [(one, over_x), (two, over_x)]),
+                how_many_fit(five, [((), 1)], [(one, over_x)]), bar_numbers(five, [((), 1)], [(one, over_x)]),
+                len(bar_numbers(five, [], [(one, over_x)])),
+                least_far(five, [], [(two, Function(five, [], [1], [1]))])]
+        self.assertEqual(told, [5, 5, [], 1, None])
+
+    def test_least_numbers_and_told_ones(self):
+        five, one, two, over_x = self.five, self.one, self.two, self.over_x
+        told = [least_far(five, [], [(one, over_x)])[0],
+                least_far(five, [((), 7)], [(one, over_x), (two, over_x)])[0], len(heads_with(five, [], one, [3])),
+                bar_numbers(five, [], heads_with(five, [], two, [3])) == [3]]
+        self.assertEqual(told, [1, -2, 1, True])
+
+
+class SlopesTest(unittest.TestCase):
+    def setUp(self):
+        self.bent, self.plain, self.two = Curve(3, [0, 2, 0, 1]), Curve(5, [1, 1, 0, 1]), Curve(3, [1, 0, 0, 0, 0, 1])
+        self.y, self.back, self.low = [Function(self.bent, *told) for told in (
+            ([], [1], [1]), ([], [1], [0, 2, 0, 1]), ([1], [], [0, 1]))]
+
+    def test_parts_and_descents(self):
+        y, low = self.y, self.low
+        told = [[(part.top(), part.side(), part.bottom()) for part in parts(y)], of_parts(self.bent, parts(y)) == y,
+                descent(y) == self.back, descent(low) == low]
+        self.assertEqual(told, [
+            [([], [0, 1], [2, 0, 1]), ([], [1], [2, 0, 1]), ([], [1], [0, 2, 0, 1])], True, True, True])
+
+    def test_matrices_and_points(self):
+        plain, two, line = self.plain, self.two, Curve(7, [3, 1])
+        told = [descent_matrix(plain), descent_matrix(two), descent_matrix(line), standing(plain), standing(two),
+                points_rest(plain, 1), points_rest(plain, 2), points_rest(two, 7), points_rest(line, 10 ** 20)]
+        self.assertEqual(told, [[[2]], [[0, 1], [0, 0]], [], 1, 0, 4, 2, 1, 1])
+
+    def test_bundles_of_descents(self):
+        self.assertEqual(descent_bundle(self.bent, [((), -4), (([0, 1], []), 3)]), [((), -2), (([0, 1], []), 1)])
 
 
 if __name__ == "__main__":

@@ -50,6 +50,18 @@ FUNCTIONS = {
         "differential_order": ["curve", "z", "place"], "differential_bundle": ["curve", "z"],
         "differentials_above": ["curve", "bundle"], "is_above": ["curve", "z", "bundle"],
         "without_poles": ["curve"], "parts_without_poles": ["curve", "z"]},
+    "curveheads.residues": {
+        "residue": ["curve", "z", "place"], "residues": ["curve", "z"], "with_residues": ["curve", "told"],
+        "has_residues": ["curve", "z", "told"]},
+    "curveheads.heads": {
+        "fits": ["curve", "bundle", "heads", "function"], "is_bar": ["curve", "bundle", "heads", "function"],
+        "fitting": ["curve", "bundle", "heads"], "how_many_fit": ["curve", "bundle", "heads"],
+        "bar_numbers": ["curve", "bundle", "heads"], "heads_with": ["curve", "bundle", "place", "numbers"],
+        "least_far": ["curve", "bundle", "heads"]},
+    "curveheads.parts": {"parts": ["one"], "of_parts": ["curve", "functions"]},
+    "curveheads.descents": {
+        "descent": ["one"], "descent_bundle": ["curve", "bundle"], "descent_matrix": ["curve"], "standing": ["curve"],
+        "points_rest": ["curve", "count"]},
 }
 CLASSES = {
     "curveheads.errors": {name: ["value"] for name in (
