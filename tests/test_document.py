@@ -12,6 +12,7 @@ from curveheads.fields import value_norm, value_product, value_quotient, value_s
 from curveheads.forms import composed, form_bundle, form_of, form_opposite, is_form, shares
 from curveheads.functions import (
     Function, far_order, lead, less_of, norm, power_of, product_of, pth_root, quotient_of, slope, sum_of, trace, turned)
+from curveheads.gaps import gap_differential, gaps, is_with_pole, pair_gaps, with_pole, with_poles
 from curveheads.heads import bar_numbers, fits, fitting, heads_with, how_many_fit, is_bar, least_far
 from curveheads.joined import is_joining, is_of_function, joining, least_form
 from curveheads.orders import order_at
@@ -19,9 +20,12 @@ from curveheads.parts import of_parts, parts
 from curveheads.places import is_place, place_degree, place_turned, places_of, places_over
 from curveheads.primes import factors, how_many_primes, is_prime, primes_of
 from curveheads.reduced import least_two, lets, near_parts, nearly_lets, two_fars
+from curveheads.relations import degree, is_relation, relation, share
 from curveheads.residues import has_residues, residue, residues, with_residues
 from curveheads.series import begun, is_series, local_sign, series, value_at
+from curveheads.slopes import divided_slopes_in, slopes_in, whose_divided_slope, whose_slope
 from curveheads.spaces import dual, first_along, fixed_part, space_basis, space_made, space_parts, space_size
+from curveheads.symbols import symbol, symbols
 
 
 class DocumentTest(unittest.TestCase):
@@ -344,8 +348,73 @@ class SlopesTest(unittest.TestCase):
                 points_rest(plain, 1), points_rest(plain, 2), points_rest(two, 7), points_rest(line, 10 ** 20)]
         self.assertEqual(told, [[[2]], [[0, 1], [0, 0]], [], 1, 0, 4, 2, 1, 1])
 
-    def test_bundles_of_descents(self):
-        self.assertEqual(descent_bundle(self.bent, [((), -4), (([0, 1], []), 3)]), [((), -2), (([0, 1], []), 1)])
+    def test_slopes(self):
+        bent, back = self.bent, self.back
+        told = [descent_bundle(bent, [((), -4), (([0, 1], []), 3)]),
+                whose_slope(back) == Function(bent, [], [1, 0, 1], [1, 0, 1, 0, 1]), slope(whose_slope(back)) == back,
+                whose_slope(self.y)]
+        self.assertEqual(told, [[((), -2), (([0, 1], []), 1)], True, True, None])
+
+    def test_divided_slopes(self):
+        bent, low = self.bent, self.low
+        found = whose_divided_slope(low)
+        told = [slope(found) == product_of(low, found), whose_divided_slope(self.y), len(slopes_in(bent, [])),
+                len(divided_slopes_in(bent, [])), len(divided_slopes_in(bent, [((), -1), (([0, 1], []), -1)]))]
+        self.assertEqual(told, [True, None, 1, 0, 1])
+
+
+class GapsTest(unittest.TestCase):
+    def setUp(self):
+        self.five, self.wide = Curve(5, [1, 1, 0, 1]), Curve(3, [1, 0, 0, 0, 0, 1])
+        self.one, self.low = ([0, 1], [1]), ([0, 1], [1])
+
+    def test_gaps(self):
+        told = [gaps(self.five, ()), gaps(self.five, self.one), gaps(self.wide, ()), gaps(self.wide, self.low)]
+        self.assertEqual(told, [[1], [1], [1, 3], [1, 2]])
+
+    def test_functions_with_a_pole(self):
+        five = self.five
+        told = [with_pole(five, (), 1), is_with_pole(five, (), 2, Function(five, [1, 3], [], [1])),
+                is_with_pole(five, (), 2, Function(five, [], [1], [1])), is_with_pole(five, (), 1, None)]
+        self.assertEqual(told, [None, True, False, False])
+
+    def test_differentials_and_pairs(self):
+        five, one = self.five, self.one
+        told = [gap_differential(five, (), 2), pair_gaps(five, (), one), with_poles(five, (), one, (1, 0)),
+                gaps(Curve(7, [3, 1]), ())]
+        self.assertEqual(told, [None, [(0, 1), (1, 0)], None, []])
+
+
+class TwoFunctionsTest(unittest.TestCase):
+    def setUp(self):
+        curve = Curve(5, [1, 1, 0, 1])
+        self.x, self.y, self.two = [Function(curve, *told) for told in (
+            ([0, 1], [], [1]), ([], [1], [1]), ([2], [], [1]))]
+
+    def test_degrees(self):
+        x, y, two = self.x, self.y, self.two
+        told = [degree(x), degree(y), degree(quotient_of(two, x)), degree(sum_of(x, y)),
+                degree(Function(x.curve(), [1], [2], [0, 1])), degree(two)]
+        self.assertEqual(told, [2, 3, 2, 3, 3, 0])
+
+    def test_relations(self):
+        x, y = self.x, self.y
+        told = [relation(x, y), relation(x, x), relation(x, product_of(x, x)),
+                is_relation(x, y, [(0, 0, 4), (0, 2, 1), (1, 0, 4), (3, 0, 4)]), is_relation(x, y, [(0, 2, 1)])]
+        self.assertEqual(told, [[(0, 0, 1), (0, 2, 4), (1, 0, 1), (3, 0, 1)], [(0, 1, 4), (1, 0, 1)],
+                                [(0, 1, 4), (2, 0, 1)], True, False])
+
+    def test_shares(self):
+        x, y = self.x, self.y
+        told = [share(x, y), share(x, product_of(x, x)), share(x, product_of(y, y)), share(y, y)]
+        self.assertEqual(told, [1, 2, 2, 3])
+
+    def test_symbols(self):
+        x, y, two = self.x, self.y, self.two
+        told = [symbols(x, y), symbol(x, y, ()), symbol(x, y, ([0, 1], [1])), symbol(y, x, ([1, 1, 0, 1], [])),
+                symbols(two, x), symbols(two, two)]
+        self.assertEqual(told, [[(([0, 1], [4]), 4), (([1, 1, 0, 1], []), 4)], 1, 1, 4,
+                                [((), 4), (([0, 1], [1]), 2), (([0, 1], [4]), 2)], []])
 
 
 if __name__ == "__main__":

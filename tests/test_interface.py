@@ -62,6 +62,17 @@ FUNCTIONS = {
     "curveheads.descents": {
         "descent": ["one"], "descent_bundle": ["curve", "bundle"], "descent_matrix": ["curve"], "standing": ["curve"],
         "points_rest": ["curve", "count"]},
+    "curveheads.slopes": {
+        "whose_slope": ["one"], "whose_divided_slope": ["one"], "slopes_in": ["curve", "bundle"],
+        "divided_slopes_in": ["curve", "bundle"]},
+    "curveheads.gaps": {
+        "gaps": ["curve", "place"], "with_pole": ["curve", "place", "order"],
+        "is_with_pole": ["curve", "place", "order", "value"], "gap_differential": ["curve", "place", "order"],
+        "pair_gaps": ["curve", "one", "other"], "with_poles": ["curve", "one", "other", "pair"]},
+    "curveheads.relations": {
+        "degree": ["function"], "relation": ["one", "other"], "is_relation": ["one", "other", "value"],
+        "share": ["one", "other"]},
+    "curveheads.symbols": {"symbol": ["one", "other", "place"], "symbols": ["one", "other"]},
 }
 CLASSES = {
     "curveheads.errors": {name: ["value"] for name in (
