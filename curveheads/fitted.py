@@ -27,25 +27,17 @@ def least_fitting(curve, bundle, heads):
 
 
 def needed_zeros(bundle, heads):
-    """How often each prime polynomial of the near places of a bundle and heads has to divide a function without poles
-    there, so that the bundle lets it at these places.
+    """The prime polynomials of the near places of a bundle and heads, each with how often it is to divide a function
+    without poles there, so that the bundle lets it at these places.
     """
-    asked = [(place[0], zeros_by_prime(place, number)) for place, number in bundle if place != ()]
+    # At branches half as often would do.
+    asked = [(place[0], max(0, -number)) for place, number in bundle if place != ()]
     asked.extend([(place[0], 0) for place, _ in heads if place != ()])
     found = []
-    for at, (q, _) in enumerate(asked):
-        if q not in [before for before, _ in asked[:at]]:
+    for q, _ in asked:
+        if q not in [prime for prime, _ in found]:
             found.append((q, max([zeros for prime, zeros in asked if prime == q])))
     return found
-
-
-def zeros_by_prime(place, number):
-    """How often the prime polynomial of a near place has to divide a function without poles there, so that a bundle
-    with a number there lets it.
-    """
-    if place[1] == []:
-        return max(0, (1 - number) // 2)
-    return max(0, -number)
 
 
 def fitting_at(curve, needed, place, function):
@@ -54,8 +46,7 @@ def fitting_at(curve, needed, place, function):
     The needed zeros are those of the bundle.
     """
     p, q = curve.prime(), place[0]
-    # Its poles are undone by as many powers of q as a bundle with its order for a number would ask for.
-    poles = zeros_by_prime(place, order_there(function, place))
+    poles = max(0, -order_there(function, place))
     count, others = poles, [1]
     for prime, zeros in needed:
         if prime == q:

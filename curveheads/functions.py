@@ -65,11 +65,9 @@ def less_of(one, other):
 def product_of(one, other):
     """The product of two functions."""
     check_two(one, other)
-    p = one.curve().prime()
-    both = poly_product(p, poly_product(p, one.side(), other.side()), one.curve().polynomial())
-    top = poly_sum(p, poly_product(p, one.top(), other.top()), both)
-    side = poly_sum(p, poly_product(p, one.top(), other.side()), poly_product(p, one.side(), other.top()))
-    return function_of(one.curve(), top, side, poly_product(p, one.bottom(), other.bottom()))
+    curve = one.curve()
+    top, side = pair_product(curve, (one.top(), one.side()), (other.top(), other.side()))
+    return function_of(curve, top, side, poly_product(curve.prime(), one.bottom(), other.bottom()))
 
 
 def quotient_of(one, other):
@@ -187,6 +185,14 @@ def function_of(curve, top, side, bottom):
     found = Function(curve, [], [], [1])
     found._top, found._side, found._bottom = lowest_terms(curve.prime(), top, side, bottom)
     return found
+
+
+def pair_product(curve, one, other):
+    """The product of two functions that are told by pairs of polynomials, without y and with y, as such a pair."""
+    p = curve.prime()
+    both = poly_product(p, poly_product(p, one[1], other[1]), curve.polynomial())
+    crossed = poly_sum(p, poly_product(p, one[0], other[1]), poly_product(p, one[1], other[0]))
+    return poly_sum(p, poly_product(p, one[0], other[0]), both), crossed
 
 
 def sum_of_multiples(curve, numbers, functions):

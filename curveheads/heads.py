@@ -7,10 +7,10 @@ from curveheads.differentials import basis_above, stands_above
 from curveheads.errors import InvalidHeads, InvalidList
 from curveheads.fitted import least_fitting
 from curveheads.functions import (
-    Function, check_function_on, far_order, function_of, less_of, product_of, sum_of, sum_of_multiples)
+    Function, check_function_on, far_order, function_of, less_of, pair_product, product_of, sum_of, sum_of_multiples)
 from curveheads.orders import order_there
 from curveheads.places import check_place, degree_of_place, is_place
-from curveheads.polynomials import inverse, poly_product, poly_sum
+from curveheads.polynomials import inverse, poly_product
 from curveheads.reduced import is_let
 from curveheads.residues import far_number, residue_there
 from curveheads.spaces import basis_of, is_number_list
@@ -149,8 +149,7 @@ def bar_number(one, least):
     # the far place, taken from 0.
     curve = one.curve()
     p = curve.prime()
-    bent = poly_product(p, poly_product(p, one.side(), least.side()), curve.polynomial())
-    straight = poly_sum(p, poly_product(p, one.top(), least.top()), bent)
+    straight, _ = pair_product(curve, (one.top(), one.side()), (least.top(), least.side()))
     return far_number(p, poly_product(p, [2], straight), poly_product(p, one.bottom(), least.bottom()))
 
 

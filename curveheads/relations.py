@@ -1,7 +1,7 @@
 """What two functions have to do with one another: polynomials in both that are nought."""
 
 from curveheads.errors import InvalidFunction
-from curveheads.functions import check_function, check_two, far_order, norm_of_pair
+from curveheads.functions import check_function, check_two, far_order, norm_of_pair, pair_product
 from curveheads.linear import null_sums
 from curveheads.polynomials import is_number, is_whole, poly_common, poly_power, poly_product, poly_sum
 
@@ -66,15 +66,10 @@ def degree_of_function(function):
 
 def least_relation(one, other):
     """The least relation of two functions, neither of which is a number."""
-    first, second = degree_of_function(one), degree_of_function(other)
-    # The greatest powers are both degrees divided by one number: with a greater one there is no relation, and with this
-    # one there is just one that ends in 1.
-    able = [part for part in reversed(range(1, first + 1)) if first % part == 0 and second % part == 0]
-    terms, found = [], []
-    for part in able:
-        if not found:
-            terms = [(i, j) for i in range(second // part + 1) for j in range(first // part + 1)]
-            found = null_sums(one.curve().prime(), term_pairs(one, other, terms))
+    most, most_other = degree_of_function(other), degree_of_function(one)
+    terms = [(i, j) for i in range(most + 1) for j in range(most_other + 1)]
+    found = null_sums(one.curve().prime(), term_pairs(one, other, terms))
+    # All relations are products with the least one, so the first one that is found, with the lowest last term, is this.
     return [(i, j, number) for (i, j), number in zip(terms, found[0]) if number != 0]
 
 
@@ -106,11 +101,3 @@ def powers_over_one(function, most):
         found.append((poly_product(p, pair[0], below), poly_product(p, pair[1], below)))
         pair = pair_product(curve, pair, (function.top(), function.side()))
     return found
-
-
-def pair_product(curve, one, other):
-    """The product of two functions without a bottom, told as pairs of polynomials."""
-    p = curve.prime()
-    both = poly_product(p, poly_product(p, one[1], other[1]), curve.polynomial())
-    crossed = poly_sum(p, poly_product(p, one[0], other[1]), poly_product(p, one[1], other[0]))
-    return poly_sum(p, poly_product(p, one[0], other[0]), both), crossed

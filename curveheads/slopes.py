@@ -3,11 +3,11 @@
 from curveheads.bundles import check_bundle
 from curveheads.curves import check_curve
 from curveheads.differentials import basis_above
-from curveheads.functions import check_function, function_of, less_of, sum_of_multiples
+from curveheads.functions import check_function, function_of, less_of, pair_product, sum_of_multiples
 from curveheads.linear import null_sums
 from curveheads.parts import last_part, over_pth_powers, pth_power, shared_bottom
 from curveheads.polynomials import (
-    inverse, poly_divided, poly_less, poly_power, poly_product, poly_slope, poly_sum, poly_trimmed)
+    inverse, poly_divided, poly_less, poly_power, poly_product, poly_slope, poly_trimmed)
 
 
 def whose_slope(one):
@@ -66,8 +66,10 @@ def risen(p, one):
 
 
 def stepped(one, pair, count):
-    """The slope of a function, less it times a told one, for a pair of polynomials over the bottom that is as many
-    times the bottom of the told one and f: it is a pair over one such bottom more.
+    """The slope of a function less it times a told one.
+
+    The function is told by a pair of polynomials over a bottom: f times that of the told one, taken as often as the
+    count tells. What is found is such a pair with a count of 1 more.
     """
     p, f = one.curve().prime(), one.curve().polynomial()
     top, side = pair
@@ -77,10 +79,8 @@ def stepped(one, pair, count):
     bend = poly_product(p, poly_product(p, one.bottom(), poly_slope(p, f)), [inverse(p, 2)])
     rise = poly_less(p, poly_product(p, bottom, poly_slope(p, top)), poly_product(p, fall, top))
     turn = poly_less(p, poly_product(p, bottom, poly_slope(p, side)), poly_product(p, poly_less(p, fall, bend), side))
-    both = poly_product(p, poly_product(p, one.side(), side), f)
-    times_top = poly_sum(p, poly_product(p, one.top(), top), both)
-    times_side = poly_sum(p, poly_product(p, one.top(), side), poly_product(p, one.side(), top))
-    return poly_less(p, rise, poly_product(p, times_top, f)), poly_less(p, turn, poly_product(p, times_side, f))
+    taken = pair_product(one.curve(), (one.top(), one.side()), pair)
+    return poly_less(p, rise, poly_product(p, taken[0], f)), poly_less(p, turn, poly_product(p, taken[1], f))
 
 
 def nulled(curve, functions, images):

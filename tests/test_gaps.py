@@ -97,6 +97,19 @@ class GapsTest(unittest.TestCase):
                 for value in functions_of_other_curves(curve) + wrong_functions() + [Function(curve, [], [], [1])]:
                     self.assertIs(is_with_pole(curve, place, 2, value), False)
 
+    def test_functions_of_other_curves(self):
+        # They have just the pole that is asked for, but on a curve of their own.
+        for curve in all_curves():
+            p, f = curve.prime(), curve.polynomial()
+            for other in [Curve(p, [1, 1]), Curve(p, [2, 1]), Curve(p, [0, 1, 0, 1]), Curve(3 if p > 3 else 5, [1, 1])]:
+                if other != curve:
+                    self.assertIs(is_with_pole(curve, (), 2, Function(other, [0, 1], [], [1])), False)
+            for other in curves_over(p):
+                if other != curve and len(other.polynomial()) == len(f):
+                    self.assertIs(is_with_pole(curve, (), len(f) - 1, Function(other, [], [1], [1])), False)
+            alike = Curve(p, f)
+            self.assertIs(is_with_pole(curve, (), 2, Function(alike, [0, 1], [], [1])), True)
+
     def test_differentials_at_gaps(self):
         for curve in all_curves():
             for place in low_three(curve):
