@@ -17,7 +17,7 @@ def least_fitting(curve, bundle, heads):
     head. The first one has the least far order that it can have then, or is 0.
     """
     near, far = function_of(curve, [], [], [1]), function_of(curve, [], [], [1])
-    needed = needed_zeros(bundle, heads)
+    needed = needed_zeros(bundle)
     for place, function in heads:
         if place == ():
             far = begun_far(curve, function, number_there(bundle, ()))
@@ -26,13 +26,12 @@ def least_fitting(curve, bundle, heads):
     return lowered(curve, bundle, less_of(near, far)), far
 
 
-def needed_zeros(bundle, heads):
-    """The prime polynomials of the near places of a bundle and heads, each with how often it is to divide a function
-    without poles there, so that the bundle lets it at these places.
+def needed_zeros(bundle):
+    """The prime polynomials of the near places of a bundle, each with how often it is to divide a function without
+    poles there, so that the bundle lets it at these places.
     """
     # At branches half as often would do.
     asked = [(place[0], max(0, -number)) for place, number in bundle if place != ()]
-    asked.extend([(place[0], 0) for place, _ in heads if place != ()])
     found = []
     for q, _ in asked:
         if q not in [prime for prime, _ in found]:
